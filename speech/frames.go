@@ -1,0 +1,104 @@
+package speech
+
+import (
+	"junction/api"
+	"junction/check"
+)
+
+// frames is the dialect FRAMES.
+type frames struct{}
+
+const (
+	head  = 7 // bytes ahead of the key and the value
+	maxID = 65535
+
+	asks  = 1 // the first byte of a command
+	tells = 2 // the first byte of an answer
+
+	statusYes    = 0
+	statusNo     = 1
+	statusFailed = 2
+)
+
+func (frames) CanSay(c api.Command, id int) bool {
+	// The keys of a wrong command are not looked at.
+	return id >= 0 && id <= maxID && (c.Kind != api.Get || len(c.Keys) == 1)
+}
+
+func (frames) Read(b []byte) Step {
+	if len(b) < head {
+		return Step{}
+	}
+	if !headMayBe(b) {
+		return fatal(wrong(api.Form, head))
+	}
+	keyEnd := head + int(b[2])
+	end := keyEnd + number(b[3:5])
+	if len(b) < end {
+		return Step{}
+	}
+	key := string(b[head:keyEnd])
+	if !check.Key(key) {
+		return fatal(wrong(api.Form, end))
+	}
+	c := api.Command{
+		Kind:  int(b[1]),
+		Keys:  []string{key},
+		Value: string(b[keyEnd:end]),
+		ID:    number(b[5:head]),
+	}
+	return Step{Command: c, Used: end}
+}
+
+func headMayBe(b []byte) bool {
+	kind, size := int(b[1]), number(b[3:5])
+	if b[0] != asks || kind < api.Get || kind > api.Delete {
+		return false
+	}
+	if b[2] < 1 || b[2] > api.MaxKey {
+		return false
+	}
+	return size == 0 || kind == api.Set && size <= api.MaxValue
+}
+
+// number reads two bytes, the lower one first.
+func number(b []byte) int { return int(b[0]) + int(b[1])<<8 }
+
+// frame writes the seven bytes.
+func frame(first, second, third, size, id int) string {
+	return string([]byte{
+		byte(first), byte(second), byte(third),
+		byte(size), byte(size >> 8),
+		byte(id), byte(id >> 8),
+	})
+}
+
+func (frames) Ask(c api.Command, id int) string {
+	key := c.Keys[0]
+	return frame(asks, c.Kind, len(key), len(c.Value), id) + key + c.Value
+}
+
+func (frames) Tell(c api.Command, a api.Answer, id int) string {
+	if c.Kind == api.Wrong {
+		id = 0
+	}
+	value := ""
+	if a.Kind == api.Found {
+		value = a.Values[0]
+	}
+	return frame(tells, status(a), 0, len(value), id) + value
+}
+
+func status(a api.Answer) int {
+	switch a.Kind {
+	case api.Failed:
+		return statusFailed
+	case api.None:
+		return statusNo
+	case api.Found:
+		if !a.Found[0] {
+			return statusNo
+		}
+	}
+	return statusYes
+}
