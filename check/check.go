@@ -54,6 +54,11 @@ func Ring(servers, points int) bool {
 	return within(servers, 1, api.MaxServers) && within(points, 1, api.MaxPoints)
 }
 
+// Config: there may be such a junction.
+func Config(c api.Config) bool {
+	return Ring(c.Servers, c.Points) && within(c.Window, 1, api.MaxWindow)
+}
+
 // finds: a tells of n keys whether each was found, and values of those alone.
 func finds(a api.Answer, n int) bool {
 	if len(a.Found) != n || len(a.Values) != n {

@@ -35,16 +35,44 @@ func Owner(servers, points int, key string) (int, api.Errno) {
 }
 
 // Junction stands between clients and servers.
-type Junction struct{}
+type Junction struct {
+	config  api.Config
+	clients []*client
+	servers []*server
+}
 
 // New makes a junction (P6).
-func New(c api.Config) (*Junction, api.Errno) { return nil, api.OK }
+func New(c api.Config) (*Junction, api.Errno) {
+	if !check.Config(c) {
+		return nil, api.ErrArg
+	}
+	x := &Junction{config: c}
+	for range c.Servers {
+		x.servers = append(x.servers, newServer())
+	}
+	return x, api.OK
+}
 
 // Open opens a client (P6).
-func (x *Junction) Open(dialect int) (int, api.Errno) { return 0, api.OK }
+func (x *Junction) Open(dialect int) (int, api.Errno) {
+	r, e := Decoder(dialect)
+	if e != api.OK || len(x.clients) == api.MaxClients {
+		return 0, api.ErrArg
+	}
+	x.clients = append(x.clients, newClient(r, x.config.Window))
+	return len(x.clients) - 1, api.OK
+}
 
 // Say: a client says something (P6).
-func (x *Junction) Say(client int, piece string) api.Errno { return api.OK }
+func (x *Junction) Say(client int, piece string) api.Errno {
+	c, e := at(x.clients, client)
+	if e != api.OK {
+		return e
+	}
+	c.reader.in.Take(piece)
+	x.readOn(c)
+	return api.OK
+}
 
 // Answer: something comes from a server (P7).
 func (x *Junction) Answer(server int, piece string) api.Errno { return api.OK }
@@ -56,7 +84,45 @@ func (x *Junction) Down(server int) api.Errno { return api.OK }
 func (x *Junction) Up(server int) api.Errno { return api.OK }
 
 // Told tells what a client was told (P8).
-func (x *Junction) Told(client int) (string, api.Errno) { return "", api.OK }
+func (x *Junction) Told(client int) (string, api.Errno) {
+	c, e := at(x.clients, client)
+	if e != api.OK {
+		return "", e
+	}
+	return c.told.String(), api.OK
+}
 
 // Sent tells what a server was sent (P8).
-func (x *Junction) Sent(server int) (string, api.Errno) { return "", api.OK }
+func (x *Junction) Sent(server int) (string, api.Errno) {
+	s, e := at(x.servers, server)
+	if e != api.OK {
+		return "", e
+	}
+	return s.sent.String(), api.OK
+}
+
+// at tells the one of that number, if there is such a one.
+func at[T any](list []*T, number int) (*T, api.Errno) {
+	if number < 0 || number >= len(list) {
+		return nil, api.ErrArg
+	}
+	return list[number], api.OK
+}
+
+// readOn tells a client what can be told, and reads it as far as it may be
+// read; each command is sent, and what can be told is told, ahead of the next.
+func (x *Junction) readOn(c *client) {
+	c.tell()
+	for q, ok := c.next(); ok; q, ok = c.next() {
+		x.send(c, q)
+		c.tell()
+	}
+}
+
+// send sends each part of a question to the owner of its key.
+func (x *Junction) send(c *client, q *question) {
+	for i, key := range q.command.Keys {
+		owner := ring.Owner(x.config.Servers, x.config.Points, key)
+		x.servers[owner].send(part{client: c, question: q, key: i})
+	}
+}

@@ -78,6 +78,10 @@ func (frames) Ask(c api.Command, id int) string {
 	return frame(asks, c.Kind, len(key), len(c.Value), id) + key + c.Value
 }
 
+// ToServer writes a command with one key, as it is sent to a server: servers
+// speak frames, whatever the client speaks.
+func ToServer(c api.Command, id int) string { return frames{}.Ask(c, id) }
+
 func (frames) Tell(c api.Command, a api.Answer, id int) string {
 	if c.Kind == api.Wrong {
 		id = 0
