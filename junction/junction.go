@@ -75,13 +75,38 @@ func (x *Junction) Say(client int, piece string) api.Errno {
 }
 
 // Answer: something comes from a server (P7).
-func (x *Junction) Answer(server int, piece string) api.Errno { return api.OK }
+func (x *Junction) Answer(server int, piece string) api.Errno {
+	s, e := x.standing(server)
+	if e != api.OK {
+		return e
+	}
+	s.in.Take(piece)
+	x.listen(s)
+	return api.OK
+}
 
 // Down: a server goes down (P7).
-func (x *Junction) Down(server int) api.Errno { return api.OK }
+func (x *Junction) Down(server int) api.Errno {
+	s, e := x.standing(server)
+	if e != api.OK {
+		return e
+	}
+	x.fall(s)
+	return api.OK
+}
 
 // Up: a server is up again (P7).
-func (x *Junction) Up(server int) api.Errno { return api.OK }
+func (x *Junction) Up(server int) api.Errno {
+	s, e := at(x.servers, server)
+	if e != api.OK {
+		return e
+	}
+	if !s.down {
+		return api.ErrUp
+	}
+	s.down = false
+	return api.OK
+}
 
 // Told tells what a client was told (P8).
 func (x *Junction) Told(client int) (string, api.Errno) {
@@ -107,6 +132,45 @@ func at[T any](list []*T, number int) (*T, api.Errno) {
 		return nil, api.ErrArg
 	}
 	return list[number], api.OK
+}
+
+// standing tells the server of that number, if there is one and it is up.
+func (x *Junction) standing(number int) (*server, api.Errno) {
+	s, e := at(x.servers, number)
+	if e == api.OK && s.down {
+		return nil, api.ErrDown
+	}
+	return s, e
+}
+
+// listen goes through what came from a server, answer by answer; whoever asked
+// is told, and read on, ahead of the next one.
+func (x *Junction) listen(s *server) {
+	sound := true
+	// Whatever way this is left, a fault is seen to, and that last: what was
+	// answered ahead of it counts.
+	defer func() {
+		if !sound {
+			x.fall(s)
+		}
+	}()
+	for {
+		var asker *client
+		asker, sound = s.hear()
+		if asker == nil {
+			return
+		}
+		x.readOn(asker)
+	}
+}
+
+// fall: a server goes down. All its parts have failed ahead of the first client
+// that is told.
+func (x *Junction) fall(s *server) {
+	s.fall()
+	for _, c := range x.clients {
+		x.readOn(c)
+	}
 }
 
 // readOn tells a client what can be told, and reads it as far as it may be

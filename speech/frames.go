@@ -15,9 +15,10 @@ const (
 	asks  = 1 // the first byte of a command
 	tells = 2 // the first byte of an answer
 
-	statusYes    = 0
-	statusNo     = 1
-	statusFailed = 2
+	// The statuses of an answer.
+	StatusYes    = 0 // found, done, gone
+	StatusNo     = 1 // not found, none
+	StatusFailed = 2
 )
 
 func (frames) CanSay(c api.Command, id int) bool {
@@ -82,6 +83,31 @@ func (frames) Ask(c api.Command, id int) string {
 // speak frames, whatever the client speaks.
 func ToServer(c api.Command, id int) string { return frames{}.Ask(c, id) }
 
+// Reply is an answer of a server to a command with one key.
+type Reply struct {
+	Status int
+	ID     uint16
+	Value  string
+	Used   int // its bytes; 0: it is not whole yet
+}
+
+// FromServer tells what the first of these bytes, that came from a server, come
+// to; it is not ok, if they are written wrong.
+func FromServer(b []byte) (r Reply, ok bool) {
+	if len(b) < head {
+		return Reply{}, true
+	}
+	end := head + number(b[3:5])
+	if b[0] != tells || b[1] > StatusFailed || b[2] != 0 || end > head+api.MaxValue {
+		return Reply{}, false
+	}
+	if len(b) < end {
+		return Reply{}, true
+	}
+	id := uint16(number(b[5:head]))
+	return Reply{Status: int(b[1]), ID: id, Value: string(b[head:end]), Used: end}, true
+}
+
 func (frames) Tell(c api.Command, a api.Answer, id int) string {
 	if c.Kind == api.Wrong {
 		id = 0
@@ -96,13 +122,13 @@ func (frames) Tell(c api.Command, a api.Answer, id int) string {
 func status(a api.Answer) int {
 	switch a.Kind {
 	case api.Failed:
-		return statusFailed
+		return StatusFailed
 	case api.None:
-		return statusNo
+		return StatusNo
 	case api.Found:
 		if !a.Found[0] {
-			return statusNo
+			return StatusNo
 		}
 	}
-	return statusYes
+	return StatusYes
 }
